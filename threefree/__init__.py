@@ -1,0 +1,1 @@
+"""Threefree: webs in which no three points are all tied."""
