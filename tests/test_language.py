@@ -27,6 +27,12 @@ WORDS_LEFT_OUT = re.compile(r"""
     |NamedTuple|TypedDict|TYPE_CHECKING|abstractmethod)\b | dataclass | overload | contextmanager
 """, re.VERBOSE)
 
+METHODS = set("""
+    append clear copy count endswith extend find get index insert isalnum isalpha isdigit islower isspace isupper items
+    join keys ljust lower lstrip partition pop remove replace reverse rfind rjust rpartition rsplit rstrip setdefault
+    split splitlines startswith strip update upper values zfill bit_length __init__
+""".split())
+
 DUNDERS = {"__init__", "__eq__", "__repr__", "__str__", "__len__"}
 
 
@@ -48,6 +54,16 @@ def top_names(path):
         if isinstance(row, ast.Assign):
             names += [target.id for target in row.targets]
     return names
+
+
+def drawn_from(path):
+    rows = ast.parse(path.read_text(encoding="utf-8")).body
+    return [row.module for row in rows if isinstance(row, ast.ImportFrom)]
+
+
+def imported(path):
+    rows = ast.parse(path.read_text(encoding="utf-8")).body
+    return {name.name for row in rows if isinstance(row, ast.ImportFrom) for name in row.names}
 
 
 class Files(unittest.TestCase):
@@ -98,6 +114,40 @@ class Language(unittest.TestCase):
             for name in (getattr(node, "id", None), getattr(node, "attr", None), getattr(node, "name", None)):
                 if name is not None and name not in DUNDERS:
                     self.assertRegex(name, r"^[A-Za-z]", (path, name))
+
+    def test_only_allowed_methods(self):
+        for path, node in nodes():
+            if isinstance(node, ast.Call) and isinstance(node.func, ast.Attribute):
+                self.assertIn(node.func.attr, METHODS, (path, node.lineno))
+
+    def test_only_plain_comparisons_and_comprehensions(self):
+        for path, node in nodes():
+            if isinstance(node, ast.Compare) and any(isinstance(sign, (ast.Is, ast.IsNot)) for sign in node.ops):
+                self.assertIsInstance(node.comparators[0], ast.Constant, (path, node.lineno))
+            if isinstance(node, ast.ListComp):
+                self.assertEqual(len(node.generators), 1, (path, node.lineno))
+                self.assertLessEqual(len(node.generators[0].ifs), 1, (path, node.lineno))
+            if isinstance(node, (ast.For, ast.While, ast.Try)):
+                self.assertFalse(getattr(node, "finalbody", []), (path, node.lineno))
+                self.assertTrue(isinstance(node, ast.Try) or not node.orelse, (path, node.lineno))
+
+    def test_each_name_means_one_thing_in_a_file(self):
+        for path in files():
+            names = top_names(path) + sorted(imported(path))
+            self.assertEqual(len(set(names)), len(names), path)
+        for path, node in nodes():
+            if isinstance(node, ast.arg):
+                self.assertNotIn(node.arg, imported(path), (path, node.lineno))
+            if isinstance(node, ast.Name) and isinstance(node.ctx, ast.Store):
+                self.assertNotIn(node.id, imported(path), (path, node.lineno))
+
+    def test_no_two_files_draw_from_one_another(self):
+        sources = {"threefree." + path.stem: drawn_from(path) for path in files()}
+        settled = []
+        while len(settled) < len(sources):
+            ready = [name for name in sources if name not in settled and set(sources[name]) <= set(settled)]
+            self.assertTrue(ready, sources)
+            settled += ready
 
 
 if __name__ == "__main__":

@@ -3,13 +3,10 @@
 import unittest
 from itertools import combinations
 
-from tests.samples import ALL_TIES, BOW, EMPTY, NO_TIES, RING, TWO_SIDES, WEBS, WRONG_WEBS, all_webs
+from tests.samples import ALL_TIES, BOW, EMPTY, NO_TIES, RING, TWO_SIDES, WEBS, WRONG_WEBS
+from tests.samples import all_webs, plainly_triangles
 from threefree.errors import NoWeb
 from threefree.triangles import is_free, triangles
-
-
-def plainly_triangles(points, ties):
-    return [three for three in combinations(range(points), 3) if set(combinations(three, 2)) <= set(ties)]
 
 
 class Triangles(unittest.TestCase):

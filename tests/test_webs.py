@@ -3,7 +3,8 @@
 import unittest
 from itertools import product
 
-from tests.samples import ALL_TIES, BOW, EMPTY, NO_TIES, RING, TWO_SIDES, WEBS, WRONG_WEBS, all_webs, pairs
+from tests.samples import ALL_TIES, BOW, EMPTY, NO_TIES, RING, TWO_SIDES, WEBS, WRONG_WEBS
+from tests.samples import all_webs, pairs, plainly_near
 from threefree.errors import NoWeb
 from threefree.webs import is_web, near
 
@@ -12,10 +13,6 @@ NO_POINTS_OF_ANY = (-100, -2, -1, 9, 10, 100)
 
 def plainly_a_web(points, ties):
     return points in range(10) and ties == sorted(set(ties)) and set(ties) <= set(pairs(points))
-
-
-def plainly_near(ties, point):
-    return sorted([b for a, b in ties if a == point] + [a for a, b in ties if b == point])
 
 
 class IsWeb(unittest.TestCase):
